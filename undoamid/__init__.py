@@ -1,0 +1,1 @@
+"""Undoamid: deeds that can be undone, also from the middle."""
