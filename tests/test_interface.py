@@ -30,6 +30,36 @@ CLASSES = {
         "moved": {"at": REQUIRED, "to": REQUIRED},
         "read": {"table": REQUIRED, "text": REQUIRED},
     },
+    ("versions", "Version"): {
+        "__init__": {"table": REQUIRED, "syllables": ()},
+        "of": {"row": REQUIRED},
+        "hangs": {"at": REQUIRED, "on": REQUIRED},
+        "only": {"kinds": STAR},
+        "without": {"kinds": STAR},
+        "under": {"table": REQUIRED},
+        "begins": {"other": REQUIRED},
+        "power": {"exponent": REQUIRED},
+    },
+}
+
+# What stands behind MOST is passed by name only.
+MOST = {"most": 2000}
+FUNCTIONS = {
+    ("between", "distance"): ({"one": REQUIRED, "other": REQUIRED}, {}),
+    ("between", "is_between"): ({"version": REQUIRED, "one": REQUIRED, "other": REQUIRED}, {}),
+    ("between", "middle"): ({"one": REQUIRED, "other": REQUIRED, "third": REQUIRED}, {}),
+    ("between", "nearest"): ({"version": REQUIRED, "base": REQUIRED, "kinds": REQUIRED}, {}),
+    ("between", "count_between"): ({"one": REQUIRED, "other": REQUIRED}, MOST),
+    ("between", "between"): ({"one": REQUIRED, "other": REQUIRED}, {}),
+    ("orders", "orders"): ({"version": REQUIRED}, {}),
+    ("orders", "count_orders"): ({"version": REQUIRED}, MOST),
+    ("orders", "order_at"): ({"version": REQUIRED, "at": REQUIRED}, MOST),
+    ("orders", "order_of"): ({"row": REQUIRED}, MOST),
+    ("amends", "amends_between"): ({"one": REQUIRED, "other": REQUIRED}, {}),
+    ("amends", "hanging"): ({"row": REQUIRED, "at": REQUIRED}, {}),
+    ("amends", "amends"): ({"row": REQUIRED, "at": REQUIRED, "more": STAR}, {}),
+    ("amends", "chain"): ({"row": REQUIRED, "at": REQUIRED, "index": REQUIRED}, {}),
+    ("amends", "moving"): ({"row": REQUIRED, "at": REQUIRED, "to": REQUIRED}, {}),
 }
 
 OPERATORS = {
@@ -37,13 +67,18 @@ OPERATORS = {
     ("rows", "Row"): [
         "__len__", "__getitem__", "__add__", "__invert__", "__eq__", "__bool__", "__str__",
     ],
+    ("versions", "Version"): [
+        "__len__", "__bool__", "__mul__", "__invert__", "__eq__", "__and__", "__or__", "__str__",
+    ],
 }
 
-CLASS_METHODS = {("tables", "Table"): ["of_cells", "read"], ("rows", "Row"): ["read"]}
-PROPERTIES = {("rows", "Row"): ["turns"]}
+CLASS_METHODS = {
+    ("tables", "Table"): ["of_cells", "read"], ("rows", "Row"): ["read"], ("versions", "Version"): ["of"],
+}
+PROPERTIES = {("rows", "Row"): ["turns"], ("versions", "Version"): ["turns"]}
 
 
-def class_of(place):
+def named(place):
     return getattr(importlib.import_module("undoamid." + place[0]), place[1])
 
 
@@ -59,30 +94,41 @@ def parameters_of(function):
 class TestInterface(unittest.TestCase):
     def test_classes_are_defined_where_they_are_listed(self):
         for place in CLASSES:
-            self.assertEqual(class_of(place).__module__, "undoamid." + place[0])
+            self.assertEqual(named(place).__module__, "undoamid." + place[0])
 
     def test_methods_stand_in_the_class_itself_with_their_parameters(self):
         for place, methods in CLASSES.items():
             for name, parameters in methods.items():
                 with self.subTest(place, name=name):
-                    method = vars(class_of(place))[name]
+                    method = vars(named(place))[name]
                     function = getattr(method, "__func__", method)
                     self.assertEqual(parameters_of(function), parameters)
                     self.assertEqual(list(parameters_of(function)), list(parameters))
+
+    def test_functions_with_their_parameters(self):
+        for place, (by_place, by_name) in FUNCTIONS.items():
+            with self.subTest(place):
+                function = named(place)
+                self.assertEqual(function.__module__, "undoamid." + place[0])
+                found = inspect.signature(function).parameters
+                told = {name: STAR if one.kind is one.VAR_POSITIONAL else one.default for name, one in found.items()}
+                self.assertEqual(list(told.items()), [*by_place.items(), *by_name.items()])
+                only = [name for name, one in found.items() if one.kind is one.KEYWORD_ONLY]
+                self.assertEqual(only, list(by_name))
 
     def test_operators_stand_in_the_class_itself(self):
         for place, names in OPERATORS.items():
             for name in names:
                 with self.subTest(place, name=name):
-                    self.assertIn(name, vars(class_of(place)))
+                    self.assertIn(name, vars(named(place)))
 
     def test_class_methods_and_properties(self):
         for place, names in CLASS_METHODS.items():
             for name in names:
-                self.assertIsInstance(vars(class_of(place))[name], classmethod)
+                self.assertIsInstance(vars(named(place))[name], classmethod)
         for place, names in PROPERTIES.items():
             for name in names:
-                self.assertIsInstance(vars(class_of(place))[name], property)
+                self.assertIsInstance(vars(named(place))[name], property)
 
     def test_the_package_file_is_empty_but_for_a_docstring(self):
         tree = ast.parse((PACKAGE / "__init__.py").read_text(encoding="utf-8"))

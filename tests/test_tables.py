@@ -167,6 +167,13 @@ class TestFree(Raising):
         self.assertIs(self.table.free("a", "b"), True)
 
 
+class TestStops(unittest.TestCase):
+    def test_a_kind_stops_itself_and_those_barred_with_it(self):
+        table = Table(["c", "b", "a"], [("b", "a")])
+        self.assertEqual([table.stops(kind) for kind in "abc"], [("a", "c"), ("b", "c"), ("a", "b", "c")])
+        self.assertEqual(Table(["a"]).stops("a"), ("a",))
+
+
 class TestWithin(unittest.TestCase):
     def test_pairs_decide(self):
         choices = [("a", "b"), ("a", "c"), ("b", "c")]

@@ -75,6 +75,7 @@ class Table:
         self.kinds = tuple(sorted(kinds))
         self.pairs = tuple(sorted({ascending(pair) for pair in pairs}))
         self._free = {pair: True for pair in self.pairs}
+        self._stops = {one: self._not_free_with(one) for one in self.kinds}
 
     @classmethod
     def of_cells(cls, cells):
@@ -110,6 +111,10 @@ class Table:
     def barred(self, one, other):
         """Whether two kinds are different and may not change places."""
         return not self.free(one, other) and one != other
+
+    def stops(self, kind):
+        """The ascending tuple of the kinds that a kind of the table cannot pass: itself and those barred with it."""
+        return self._stops[kind]
 
     def with_pair(self, one, other):
         """The table in which these two kinds are free."""
@@ -148,6 +153,10 @@ class Table:
                     reached[other] = True
                     waiting.append(other)
         return tuple(sorted(reached))
+
+    def _not_free_with(self, one):
+        """The ascending tuple of the kinds that are not free with a kind."""
+        return tuple([other for other in self.kinds if ascending((one, other)) not in self._free])
 
     def _require_pair(self, one, other):
         """Raise the errors for what is not two different kinds."""

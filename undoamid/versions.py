@@ -1,0 +1,212 @@
+"""Versions: what rows do, whatever they are called."""
+
+from undoamid.errors import Barred, OtherTable, TooMany
+from undoamid.rows import Row, require_index
+from undoamid.tables import require_kinds
+
+LIMIT = 1000
+
+
+def piles_of(row):
+    """For each kind the (layer, count) of the syllables that are left of a row when all that can melt has melted."""
+    piles = {kind: [] for kind in row.table.kinds}
+    for kind, count in row.syllables:
+        layer = max([piles[other][-1][0] + 1 for other in row.table.stops(kind) if piles[other]], default=0)
+        total = count
+        # A syllable that comes to lie on one of its own kind melts with it, and nothing lies on that one.
+        if piles[kind] and piles[kind][-1][0] == layer - 1:
+            layer, above = piles[kind].pop()
+            total = count + above
+        if total != 0:
+            piles[kind].append((layer, total))
+    return piles
+
+
+def layers_of(row):
+    """The layers of the form of a row's version, however many syllables it has."""
+    piles = piles_of(row)
+    layers = [[] for _ in range(max([pile[-1][0] + 1 for pile in piles.values() if pile], default=0))]
+    for kind in row.table.kinds:
+        for at, count in piles[kind]:
+            layers[at].append((kind, count))
+    return tuple([tuple(layer) for layer in layers])
+
+
+def form_of(row):
+    """The syllables of the form of a row's version, however many they are."""
+    return tuple([syllable for layer in layers_of(row) for syllable in layer])
+
+
+def difference(one, other):
+    """The row of ~one * other; it may be longer than a version may be."""
+    return ~one.row + other.row
+
+
+def held(table, syllables, kinds):
+    """The indexes of the syllables of a short row that cannot pass deeds of these kinds ahead of it."""
+    stopped = {kind: True for kind in kinds}
+    found = []
+    for at, (kind, _) in enumerate(syllables):
+        if kind in stopped:
+            found.append(at)
+            for other in table.stops(kind):
+                stopped[other] = True
+    return found
+
+
+def last_of(table, syllables):
+    """The ascending tuple of the syllables of a short row on which none hangs."""
+    stopped = {}
+    found = []
+    for kind, count in syllables[::-1]:
+        if kind not in stopped:
+            found.append((kind, count))
+        for other in table.stops(kind):
+            stopped[other] = True
+    return tuple(sorted(found))
+
+
+def shared_count(one, other):
+    """The turns that two counts have in common, with their sign; none if the signs differ."""
+    if one > 0 and other > 0:
+        return min(one, other)
+    if one < 0 and other < 0:
+        return max(one, other)
+    return 0
+
+
+def common(table, layers, others):
+    """The syllables of the greatest common beginning of two versions that have these layers."""
+    # What both begin with is at the same layer in both.
+    stopped = {}
+    found = []
+    for layer, other_layer in zip(layers, others):
+        here = dict(layer)
+        there = dict(other_layer)
+        for kind in sorted({kind for kind, _ in [*layer, *other_layer]}):
+            one, other = here.get(kind, 0), there.get(kind, 0)
+            count = 0 if kind in stopped else shared_count(one, other)
+            if count != 0:
+                found.append((kind, count))
+            if count != one or count != other:
+                for behind in table.stops(kind):
+                    stopped[behind] = True
+    return found
+
+
+def require_free(table, one, other):
+    """Raise Barred if some syllables of two forms cannot pass each other."""
+    for first in one:
+        for second in other:
+            if second[0] in table.stops(first[0]):
+                raise Barred(first, second)
+
+
+def turned_round(version):
+    """A lead and a round version such that the version is lead * round * ~lead."""
+    lead = version & ~version
+    inner = ~lead * version * lead
+    kinds = [kind for kind, _ in inner.syllables]
+    lasts = [kind for kind, _ in inner.last]
+    # Where turns of a kind are left at both ends, those of the front go to the end.
+    firsts = [syllable for layer in inner.layers[:1] for syllable in layer]
+    more = Version(version.table, [one for one in firsts if one[0] in lasts and kinds.count(one[0]) > 1])
+    return lead * more, ~more * inner * more
+
+
+class Version:
+    """All rows that always do the same, told by their form."""
+
+    def __init__(self, table, syllables=()):
+        row = Row(table, syllables)
+        layers = layers_of(row)
+        form = [syllable for layer in layers for syllable in layer]
+        if len(form) > LIMIT:
+            raise TooMany(LIMIT)
+        self.table = table
+        self.syllables = tuple(form)
+        self.layers = layers
+        self.kinds = tuple(sorted({kind for kind, _ in form}))
+        self.row = Row(table, form)
+        self.last = last_of(table, form)
+
+    @classmethod
+    def of(cls, row):
+        """The version of a row."""
+        return cls(row.table, row.syllables)
+
+    @property
+    def turns(self):
+        """How often something is done or undone in the form, in all."""
+        return self.row.turns
+
+    def hangs(self, at, on):
+        """Whether the syllable of the form at one index hangs on that at another one."""
+        require_index(at, len(self.syllables))
+        require_index(on, len(self.syllables))
+        kind, _ = self.syllables[on]
+        return at - on - 1 in held(self.table, self.syllables[on + 1:], self.table.stops(kind))
+
+    def only(self, *kinds):
+        """The version without the syllables of all other kinds."""
+        require_kinds(self.table, kinds)
+        return Version(self.table, [syllable for syllable in self.syllables if syllable[0] in kinds])
+
+    def without(self, *kinds):
+        """The version without the syllables of these kinds."""
+        require_kinds(self.table, kinds)
+        return Version(self.table, [syllable for syllable in self.syllables if syllable[0] not in kinds])
+
+    def under(self, table):
+        """The version of the form over another table with the same kinds."""
+        if self.table.kinds != table.kinds:
+            raise OtherTable()
+        return Version(table, self.syllables)
+
+    def begins(self, other):
+        """Whether this version is a beginning of another one."""
+        return (self & other).syllables == self.syllables
+
+    def power(self, exponent):
+        """The product of so many factors; of the undone version for a negative exponent."""
+        lead, turned = turned_round(self if exponent > 0 else ~self)
+        times = abs(exponent)
+        alone = [group[0] for group in self.table.groups(turned.kinds) if len(group) == 1]
+        fixed = [(kind, count * times) for kind, count in turned.syllables if kind in alone]
+        repeated = [syllable for syllable in turned.syllables if syllable[0] not in alone]
+        # Nothing melts between the factors of a round version, and what is ahead and behind takes away
+        # no more syllables than it has.
+        if len(repeated) * times > LIMIT + 2 * len(lead):
+            raise TooMany(LIMIT)
+        middle = repeated * times
+        back = ~lead
+        return Version(self.table, [*lead.syllables, *fixed, *middle, *back.syllables])
+
+    def __len__(self):
+        return len(self.syllables)
+
+    def __bool__(self):
+        return bool(self.syllables)
+
+    def __mul__(self, other):
+        return Version.of(self.row + other.row)
+
+    def __invert__(self):
+        return Version.of(~self.row)
+
+    def __and__(self, other):
+        if self.table != other.table:
+            raise OtherTable()
+        return Version(self.table, common(self.table, self.layers, other.layers))
+
+    def __or__(self, other):
+        beginning = self & other
+        rest = form_of(difference(beginning, other))
+        require_free(self.table, form_of(difference(beginning, self)), rest)
+        return Version(self.table, [*self.syllables, *rest])
+
+    def __eq__(self, other):
+        return isinstance(other, Version) and self.table == other.table and self.syllables == other.syllables
+
+    def __str__(self):
+        return str(self.row)
