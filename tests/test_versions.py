@@ -251,6 +251,16 @@ class TestPowers(Raising):
         longer = lead * version("b c") * ~lead
         self.assert_error(TooMany, {"count": 1000}, longer.power, 10 ** 18)
 
+    def test_great_exponents_with_a_result_of_just_so_many_syllables(self):
+        lead = alternating("c", "a", 499)
+        back = [(kind, -count) for kind, count in reversed(lead)]
+        v = Version(ABC, [*lead, ("a", 1), ("b", -2), *back])
+        for exponent in (10 ** 18, -10 ** 18, 1, -1):
+            result = v.power(exponent)
+            self.assertEqual(result.syllables, (*lead, ("a", exponent), ("b", -2 * exponent), *back))
+            self.assertEqual(len(result), 1000)
+        self.assertEqual(v.power(0), EMPTY)
+
     def test_powers_of_just_so_many_syllables(self):
         self.assertEqual(len(version("a c").power(500)), 1000)
         self.assertEqual(len(version("a c").power(-500)), 1000)
