@@ -151,6 +151,14 @@ def all_orders(table, form):
     return sorted(found, key=lambda row: [kind for kind, _ in row])
 
 
+def led(moves, syllables, standing):
+    """The standing to which a row leads a standing."""
+    for kind, count in syllables:
+        for _ in range(abs(count) if kind in moves else 0):
+            standing = moves[kind][standing] if count > 0 else list(moves[kind]).index(standing)
+    return standing
+
+
 def words_within(table, kinds, most):
     """All normal words of these kinds with at most so many turns."""
     found, new = {()}, [()]
@@ -159,6 +167,57 @@ def words_within(table, kinds, most):
         new = sorted(grown - found)
         found |= grown
     return found
+
+
+def groups_of(table, kinds):
+    """The groups of kinds, by joining two as long as two of their kinds are barred."""
+    groups = [{kind} for kind in kinds]
+    for one, other in itertools.combinations(kinds, 2):
+        if not passes(table, one, other):
+            joined = [group for group in groups if one in group or other in group]
+            groups = [group for group in groups if group not in joined] + [set().union(*joined)]
+    return sorted(tuple(sorted(group)) for group in groups)
+
+
+def ends_of(table, row):
+    """The indexes of the first and of the last syllables of a short row."""
+    pairs = hanging_pairs(table, row)
+    firsts = [at for at in range(len(row)) if not any(late == at for late, _ in pairs)]
+    lasts = [at for at in range(len(row)) if not any(early == at for _, early in pairs)]
+    return firsts, lasts
+
+
+def is_round_form(table, form):
+    """Whether no kind has a first and a last syllable that are two."""
+    firsts, lasts = ends_of(table, form)
+    return not any(form[one][0] == form[other][0] and one != other for one in firsts for other in lasts)
+
+
+def round_forms(table, form):
+    """All round forms to which a form comes by turning."""
+    found, new = {tuple(form)}, [tuple(form)]
+    while new:
+        turned = set()
+        for one in new:
+            for at in ends_of(table, one)[0]:
+                turned.add(formed(table, turns_of([*one[:at], *one[at + 1:], one[at]])))
+        new = sorted(turned - found)
+        found |= turned
+    return {one for one in found if is_round_form(table, one)}
+
+
+def told_round(table, form):
+    """The form of the round version of [35]."""
+    best = None
+    for one in round_forms(table, form):
+        shares = [
+            formed(table, turns_of([syllable for syllable in one if syllable[0] in group]))
+            for group in groups_of(table, sorted({kind for kind, _ in one}))
+        ]
+        tops = [[share[at][0] for at in ends_of(table, share)[0]] for share in shares]
+        if all(len({kind for kind, _ in share}) == 1 or top == [min(share)[0]] for share, top in zip(shares, tops)):
+            best = shares if best is None else min(best, shares)
+    return formed(table, turns_of([syllable for share in best for syllable in share]))
 
 
 def random_pairs(source, kinds, share):

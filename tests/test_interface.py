@@ -40,6 +40,12 @@ CLASSES = {
         "begins": {"other": REQUIRED},
         "power": {"exponent": REQUIRED},
     },
+    ("stores", "Store"): {
+        "__init__": {"size": REQUIRED, "moves": REQUIRED},
+        "__call__": {"row": REQUIRED, "standing": REQUIRED},
+        "clash": {"table": REQUIRED},
+        "keeps": {"table": REQUIRED},
+    },
 }
 
 # What stands behind MOST is passed by name only.
@@ -60,6 +66,21 @@ FUNCTIONS = {
     ("amends", "amends"): ({"row": REQUIRED, "at": REQUIRED, "more": STAR}, {}),
     ("amends", "chain"): ({"row": REQUIRED, "at": REQUIRED, "index": REQUIRED}, {}),
     ("amends", "moving"): ({"row": REQUIRED, "at": REQUIRED, "to": REQUIRED}, {}),
+    ("parting", "core"): ({"one": REQUIRED, "other": REQUIRED}, {}),
+    ("parting", "count_standings"): ({"version": REQUIRED}, MOST),
+    ("parting", "parted"): ({"one": REQUIRED, "other": REQUIRED}, MOST),
+    ("parting", "parts"): ({"version": REQUIRED}, {}),
+    ("parting", "count_parts"): ({"version": REQUIRED}, MOST),
+    ("rounds", "is_round"): ({"version": REQUIRED}, {}),
+    ("rounds", "round_form"): ({"version": REQUIRED}, {}),
+    ("rounds", "root"): ({"version": REQUIRED}, {}),
+    ("rounds", "exponent"): ({"base": REQUIRED, "version": REQUIRED}, {}),
+    ("rounds", "lead_between"): ({"one": REQUIRED, "other": REQUIRED}, {}),
+    ("rounds", "exchangeable"): ({"one": REQUIRED, "other": REQUIRED}, {}),
+    ("rounds", "exchanging"): ({"version": REQUIRED}, {}),
+    ("merging", "laid"): ({"base": REQUIRED, "branch": REQUIRED, "onto": REQUIRED}, {}),
+    ("merging", "joined"): ({"base": REQUIRED, "one": REQUIRED, "more": STAR}, {}),
+    ("merging", "together"): ({"base": REQUIRED, "one": REQUIRED, "other": REQUIRED}, {}),
 }
 
 OPERATORS = {
@@ -70,12 +91,19 @@ OPERATORS = {
     ("versions", "Version"): [
         "__len__", "__bool__", "__mul__", "__invert__", "__eq__", "__and__", "__or__", "__str__",
     ],
+    ("stores", "Store"): ["__call__", "__eq__"],
 }
 
 CLASS_METHODS = {
     ("tables", "Table"): ["of_cells", "read"], ("rows", "Row"): ["read"], ("versions", "Version"): ["of"],
 }
-PROPERTIES = {("rows", "Row"): ["turns"], ("versions", "Version"): ["turns"]}
+PROPERTIES = {("rows", "Row"): ["turns"], ("versions", "Version"): ["turns"], ("stores", "Store"): ["moves"]}
+ATTRIBUTES = {
+    ("tables", "Table"): ["kinds", "pairs"],
+    ("rows", "Row"): ["table", "syllables"],
+    ("versions", "Version"): ["table", "syllables", "layers", "kinds", "row", "last"],
+    ("stores", "Store"): ["size"],
+}
 
 
 def named(place):
@@ -129,6 +157,13 @@ class TestInterface(unittest.TestCase):
         for place, names in PROPERTIES.items():
             for name in names:
                 self.assertIsInstance(vars(named(place))[name], property)
+
+    def test_attributes_are_set_when_an_object_is_created(self):
+        table = named(("tables", "Table"))(["a"])
+        arguments = {"Table": (["a"],), "Row": (table,), "Version": (table,), "Store": (1, {})}
+        for place, names in ATTRIBUTES.items():
+            made = named(place)(*arguments[place[1]])
+            self.assertLessEqual(set(names), set(vars(made)))
 
     def test_the_package_file_is_empty_but_for_a_docstring(self):
         tree = ast.parse((PACKAGE / "__init__.py").read_text(encoding="utf-8"))

@@ -3,7 +3,7 @@
 import itertools
 import unittest
 
-from reference import NAMES, normal, random_pairs, random_syllables, sources, turns_of, words_within
+from reference import NAMES, led, normal, random_pairs, random_syllables, sources, turns_of, words_within
 from undoamid.amends import amends, hanging
 from undoamid.between import distance, middle, nearest
 from undoamid.errors import Barred
@@ -37,15 +37,6 @@ def stepped(source, table, syllables):
         share = source.randint(-3, 3)
         found[at:at + 1] = [(here[0][0], share), (here[0][0], here[0][1] - share)]
     return found
-
-
-def led(moves, syllables, standing):
-    """The standing to which a row leads a standing."""
-    for kind, count in syllables:
-        move = moves.get(kind, range(len(next(iter(moves.values())))))
-        for _ in range(abs(count)):
-            standing = move[standing] if count > 0 else list(move).index(standing)
-    return standing
 
 
 class TestOneForm(unittest.TestCase):

@@ -1,6 +1,6 @@
 """What lies between versions: distances, the middle of three, the nearest one, and all of them."""
 
-from undoamid.cuts import Shape, sum_of_products
+from undoamid.shapes import sum_over_parts
 from undoamid.tables import require_kinds
 from undoamid.versions import Version, common, difference, form_of, held, layers_of
 
@@ -40,7 +40,7 @@ def count_between(one, other, *, most=2000):
     """The number of versions between two versions."""
     form = form_of(difference(one, other))
     # A syllable next to a part may have been done any number of turns, but not all: then it is in the part.
-    return sum_of_products(Shape(one.table, form), [abs(count) for _, count in form], most)
+    return sum_over_parts(one.table, [(kind, abs(count)) for kind, count in form], most)
 
 
 def beginning(table, form, turns):

@@ -63,18 +63,6 @@ def levels(shape, most):
     return found
 
 
-def sum_of_products(shape, weights, most):
-    """The sum, over all cuts, of the product of the weights of the syllables next to the cut."""
-    total = 0
-    for level in levels(shape, most):
-        for cut in level:
-            factor = 1
-            for which in shape.next_to(cut):
-                factor = factor * weights[shape.place_of(cut, which)]
-            total = total + factor
-    return total
-
-
 def ways_to_end(shape, most):
     """A dict from each cut to the number of orders in which the other syllables can follow it."""
     ways = {}

@@ -11,6 +11,12 @@ def require_index(at, size):
         raise NoDeed(at)
 
 
+def require_same_table(one, other):
+    """Raise OtherTable unless two rows or versions are over equal tables."""
+    if one.table != other.table:
+        raise OtherTable()
+
+
 def text_of_syllable(kind, count):
     """The text of a syllable."""
     if count == 1:
@@ -90,8 +96,7 @@ class Row:
         raise TypeError("a row is not iterated over, its syllables are")
 
     def __add__(self, other):
-        if self.table != other.table:
-            raise OtherTable()
+        require_same_table(self, other)
         return Row(self.table, [*self.syllables, *other.syllables])
 
     def __invert__(self):

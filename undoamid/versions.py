@@ -1,7 +1,7 @@
 """Versions: what rows do, whatever they are called."""
 
 from undoamid.errors import Barred, OtherTable, TooMany
-from undoamid.rows import Row, require_index
+from undoamid.rows import Row, require_index, require_same_table
 from undoamid.tables import require_kinds
 
 LIMIT = 1000
@@ -102,15 +102,28 @@ def require_free(table, one, other):
                 raise Barred(first, second)
 
 
+def joint(one, other):
+    """A row of the least version of which two rows are beginnings; raises Barred if there is none."""
+    beginning = Row(one.table, common(one.table, layers_of(one), layers_of(other)))
+    rest = form_of(~beginning + other)
+    require_free(one.table, form_of(~beginning + one), rest)
+    return Row(one.table, [*one.syllables, *rest])
+
+
+def first_of_two(version):
+    """The first syllables of a version for whose kinds another syllable is a last one."""
+    kinds = [kind for kind, _ in version.syllables]
+    lasts = [kind for kind, _ in version.last]
+    firsts = [syllable for layer in version.layers[:1] for syllable in layer]
+    return [syllable for syllable in firsts if syllable[0] in lasts and kinds.count(syllable[0]) > 1]
+
+
 def turned_round(version):
     """A lead and a round version such that the version is lead * round * ~lead."""
     lead = version & ~version
     inner = ~lead * version * lead
-    kinds = [kind for kind, _ in inner.syllables]
-    lasts = [kind for kind, _ in inner.last]
     # Where turns of a kind are left at both ends, those of the front go to the end.
-    firsts = [syllable for layer in inner.layers[:1] for syllable in layer]
-    more = Version(version.table, [one for one in firsts if one[0] in lasts and kinds.count(one[0]) > 1])
+    more = Version(version.table, first_of_two(inner))
     return lead * more, ~more * inner * more
 
 
@@ -195,15 +208,12 @@ class Version:
         return Version.of(~self.row)
 
     def __and__(self, other):
-        if self.table != other.table:
-            raise OtherTable()
+        require_same_table(self, other)
         return Version(self.table, common(self.table, self.layers, other.layers))
 
     def __or__(self, other):
-        beginning = self & other
-        rest = form_of(difference(beginning, other))
-        require_free(self.table, form_of(difference(beginning, self)), rest)
-        return Version(self.table, [*self.syllables, *rest])
+        require_same_table(self, other)
+        return Version.of(joint(self.row, other.row))
 
     def __eq__(self, other):
         return isinstance(other, Version) and self.table == other.table and self.syllables == other.syllables
