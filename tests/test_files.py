@@ -1,6 +1,7 @@
-"""Tests of the form of the package's files: sizes, characters and imports."""
+"""Tests of the form of the package's files: sizes, characters and imports; and of the examples of README.md."""
 
 import ast
+import doctest
 import pathlib
 import unittest
 import warnings
@@ -44,6 +45,11 @@ class TestFiles(unittest.TestCase):
             warnings.simplefilter("error")
             for path in FILES:
                 compile(path.read_text(encoding="utf-8"), path.name, "exec")
+
+    def test_the_examples_of_the_readme(self):
+        found = doctest.testfile(str(PACKAGE.parent / "README.md"), module_relative=False)
+        self.assertGreater(found.attempted, 20)
+        self.assertEqual(found.failed, 0)
 
 
 if __name__ == "__main__":

@@ -46,6 +46,28 @@ CLASSES = {
         "clash": {"table": REQUIRED},
         "keeps": {"table": REQUIRED},
     },
+    ("houses", "House"): {
+        "__init__": {"table": REQUIRED},
+        "do": {"kind": REQUIRED, "count": 1},
+        "take_out": {"at": REQUIRED},
+        "move": {"at": REQUIRED, "to": REQUIRED},
+        "shorten": {},
+        "branch": {"name": REQUIRED},
+        "go": {"name": REQUIRED},
+        "drop": {"name": REQUIRED},
+        "merge": {"name": REQUIRED},
+        "together": {"name": REQUIRED},
+        "lay": {"name": REQUIRED},
+        "change": {"table": REQUIRED},
+        "undo": {},
+        "attach": {"name": REQUIRED, "store": REQUIRED, "standing": REQUIRED},
+        "standing": {"name": REQUIRED},
+        "log": {},
+        "trial": {},
+        "tried": {"steps": REQUIRED},
+        "within": {"work": REQUIRED},
+    },
+    ("desk", "Desk"): {"__init__": {}, "say": {"command": REQUIRED}},
 }
 
 # What stands behind MOST is passed by name only.
@@ -81,6 +103,18 @@ FUNCTIONS = {
     ("merging", "laid"): ({"base": REQUIRED, "branch": REQUIRED, "onto": REQUIRED}, {}),
     ("merging", "joined"): ({"base": REQUIRED, "one": REQUIRED, "more": STAR}, {}),
     ("merging", "together"): ({"base": REQUIRED, "one": REQUIRED, "other": REQUIRED}, {}),
+    ("papers", "paper"): ({"one": REQUIRED, "other": REQUIRED}, {}),
+    ("papers", "paper_holds"): ({"one": REQUIRED, "other": REQUIRED, "value": REQUIRED}, {}),
+    ("papers", "walked"): ({"row": REQUIRED, "value": REQUIRED}, {}),
+    ("papers", "parting_holds"): (
+        {"one": REQUIRED, "other": REQUIRED, "store": REQUIRED, "standing": REQUIRED}, {}),
+    ("papers", "lead_holds"): ({"one": REQUIRED, "other": REQUIRED, "lead": REQUIRED}, {}),
+    ("papers", "root_holds"): ({"version": REQUIRED, "root": REQUIRED, "power": REQUIRED}, {}),
+    ("papers", "exchange_holds"): (
+        {"version": REQUIRED, "lead": REQUIRED, "roots": REQUIRED, "kinds": REQUIRED}, {}),
+    ("counting", "count_versions"): ({"table": REQUIRED, "turns": REQUIRED}, {}),
+    ("counting", "count_within"): ({"table": REQUIRED, "turns": REQUIRED}, {}),
+    ("counting", "free_sets"): ({"table": REQUIRED}, {}),
 }
 
 OPERATORS = {
@@ -92,6 +126,8 @@ OPERATORS = {
         "__len__", "__bool__", "__mul__", "__invert__", "__eq__", "__and__", "__or__", "__str__",
     ],
     ("stores", "Store"): ["__call__", "__eq__"],
+    ("houses", "House"): ["__getitem__", "__contains__", "__len__", "__eq__"],
+    ("desk", "Desk"): ["__len__"],
 }
 
 CLASS_METHODS = {
@@ -103,6 +139,7 @@ ATTRIBUTES = {
     ("rows", "Row"): ["table", "syllables"],
     ("versions", "Version"): ["table", "syllables", "layers", "kinds", "row", "last"],
     ("stores", "Store"): ["size"],
+    ("houses", "House"): ["table", "current", "names", "row", "version", "stores"],
 }
 
 
@@ -160,7 +197,7 @@ class TestInterface(unittest.TestCase):
 
     def test_attributes_are_set_when_an_object_is_created(self):
         table = named(("tables", "Table"))(["a"])
-        arguments = {"Table": (["a"],), "Row": (table,), "Version": (table,), "Store": (1, {})}
+        arguments = {"Table": (["a"],), "Row": (table,), "Version": (table,), "Store": (1, {}), "House": (table,)}
         for place, names in ATTRIBUTES.items():
             made = named(place)(*arguments[place[1]])
             self.assertLessEqual(set(names), set(vars(made)))

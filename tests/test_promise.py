@@ -1,14 +1,20 @@
-"""Tests of [8] and [13], as far as rows, versions, what is between them, orders and amends reach."""
+"""Tests of [2], [8] and [13], over the whole program."""
 
 import itertools
 import unittest
 
 from reference import NAMES, led, normal, random_pairs, random_syllables, sources, turns_of, words_within
-from undoamid.amends import amends, hanging
-from undoamid.between import distance, middle, nearest
+from undoamid.amends import amends, chain, hanging
+from undoamid.between import between, count_between, distance, middle, nearest
+from undoamid.counting import count_within, free_sets
 from undoamid.errors import Barred
-from undoamid.orders import orders
+from undoamid.merging import joined
+from undoamid.orders import count_orders, orders
+from undoamid.papers import paper, paper_holds, parting_holds
+from undoamid.parting import core, parted, parts
+from undoamid.rounds import exchanging, lead_between, root, round_form
 from undoamid.rows import Row
+from undoamid.stores import Store
 from undoamid.tables import Table
 from undoamid.versions import Version
 
@@ -40,6 +46,29 @@ def stepped(source, table, syllables):
 
 
 class TestOneForm(unittest.TestCase):
+    def test_equal_forms_steps_and_stores_tell_the_same(self):
+        seen = set()
+        for source in sources(150, 17):
+            table = random_table(source, most=4)
+            syllables = random_syllables(source, list(table.kinds), 5)
+            one = Row(table, syllables)
+            for _ in range(20):
+                syllables = stepped(source, table, syllables)
+            if source.randrange(2) and syllables:
+                at = source.randrange(len(syllables))
+                syllables[at:at + 2] = syllables[at:at + 2][::-1]
+            other = Row(table, syllables)
+            v, w = Version.of(one), Version.of(other)
+            alike = v.syllables == w.syllables
+            seen.add(alike)
+            steps, answer = paper(one, other), parted(v, w, most=5000)
+            self.assertEqual((v == w, steps is not None, answer is None), (alike, alike, alike))
+            if alike:
+                self.assertIs(paper_holds(one, other, steps), True)
+            else:
+                self.assertIs(parting_holds(v, w, *answer), True)
+        self.assertEqual(seen, {True, False})
+
     def test_steps_do_not_change_the_version(self):
         for source in sources(80, 11):
             table = random_table(source)
@@ -160,6 +189,39 @@ class TestNearest(unittest.TestCase):
             for _ in range(20):
                 other = base * Version(table, random_syllables(source, list(table.kinds), 4)).only(*kinds)
                 self.assertGreaterEqual(distance(v, other), distance(v, found) + distance(found, other))
+
+
+class TestNothingChanges(unittest.TestCase):
+    """[2]: the same call returns an equal result, and what was passed is as it was."""
+
+    def all_answers(self, table, syllables, others):
+        row, v, w = Row(table, syllables), Version(table, syllables), Version(table, others)
+        store = Store(3, {"a": [1, 2, 0], "b": [2, 0, 1]})
+        return [
+            row, v, w, str(table), str(row), v.layers, v.last, v * w, ~v, v & w, v.power(3), distance(v, w),
+            middle(v, w, ~v), nearest(v, w, ["a"]), count_between(v, w), list(itertools.islice(between(v, w), 9)),
+            count_orders(v), [one.syllables for one in itertools.islice(orders(v), 9)], hanging(row, 0),
+            amends(row, 0, 1), chain(row, 0, 0), store, store.moves, store(v, 1), store.clash(table),
+            core(v, w), parted(v, w),
+            list(parts(v)), round_form(v), root(v), lead_between(v, ~w * v * w), exchanging(v), joined(v, v, v * w),
+            paper(row, v.row), free_sets(table), count_within(table, 9),
+        ]
+
+    def test_all_answers_twice(self):
+        kinds, pairs = ["b", "a", "c"], [("b", "a")]
+        syllables, others = [("a", 2), ("c", 1), ("b", -1), ("c", 3)], [("c", -1), ("b", 2), ("a", 0)]
+        before = [list(kinds), list(pairs), list(syllables), list(others)]
+        table = Table(kinds, pairs)
+        first = self.all_answers(table, syllables, others)
+        self.all_answers(table.without_pair("a", "b"), syllables, others)
+        self.assertEqual(self.all_answers(table, syllables, others), first)
+        self.assertEqual(self.all_answers(Table(kinds, pairs), syllables, others), first)
+        self.assertEqual([kinds, pairs, syllables, others], before)
+        row, v = Row(table, syllables), Version(table, syllables)
+        for some in (kinds, pairs, syllables, others):
+            some.clear()
+        self.assertEqual((table.kinds, table.pairs), (("a", "b", "c"), (("a", "b"),)))
+        self.assertEqual((row.syllables, v.syllables), (tuple(before[2]), first[1].syllables))
 
 
 if __name__ == "__main__":
