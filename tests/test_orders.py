@@ -137,6 +137,68 @@ class TestIndexes(Raising):
                 self.assertEqual(order_of(row=row), places.index(row.syllables))
 
 
+class TestGroups(Raising):
+    """Kinds in groups that are free with one another: their orders are mixed in any way."""
+
+    def test_mixed_groups(self):
+        for source in sources(40, 4):
+            kinds = list(NAMES[:6])
+            source.shuffle(kinds)
+            cuts = sorted([0, 6, source.randrange(7), source.randrange(7)])
+            groups = [kinds[low:high] for low, high in zip(cuts, cuts[1:])]
+            table = Table(kinds, [
+                (one, other) for one, other in itertools.combinations(kinds, 2)
+                if not any(one in group and other in group for group in groups) or source.randrange(4) == 0
+            ])
+            v = Version(table, random_syllables(source, kinds, 7))
+            expected = all_orders(table, v.syllables)
+            self.assertEqual([one.syllables for one in orders(v)], expected)
+            self.assertEqual(count_orders(v), len(expected))
+            self.assertEqual([order_at(v, at).syllables for at in range(len(expected))], expected)
+            self.assertEqual([order_of(Row(table, one)) for one in expected], list(range(len(expected))))
+            self.assert_error(NoDeed, {"at": len(expected)}, order_at, v, len(expected))
+
+    def test_ten_and_eleven_free_kinds(self):
+        for many in (10, 11):
+            table = Table(KINDS[:many], [pair for pair in FREE.pairs if pair[0] < pair[1] <= KINDS[many - 1]])
+            v = Version(table, [(kind, 1) for kind in KINDS[:many]])
+            number, cuts = math.factorial(many), 2 ** many
+            self.assertEqual(count_orders(v, most=cuts), number)
+            self.assertEqual(order_of(v.row, most=cuts), 0)
+            last = Row(table, v.syllables[::-1])
+            self.assertEqual((order_at(v, number - 1, most=cuts), order_of(last, most=cuts)), (last, number - 1))
+            for at, order in enumerate(itertools.islice(itertools.permutations(KINDS[:many]), 50)):
+                row = Row(table, [(kind, 1) for kind in order])
+                self.assertEqual((order_at(v, at, most=cuts), order_of(row, most=cuts)), (row, at))
+            for source in sources(30, 5):
+                at = source.randrange(number)
+                self.assertEqual(order_of(order_at(v, at, most=cuts), most=5000), at)
+            for at in (-1, number, 10 ** 40):
+                self.assert_error(NoDeed, {"at": at}, order_at, v, at, most=cuts)
+                self.assert_error(TooMany, {"count": cuts - 1}, order_at, v, at, most=cuts - 1)
+            self.assert_error(TooMany, {"count": cuts - 1}, count_orders, v, most=cuts - 1)
+            self.assert_error(TooMany, {"count": cuts - 1}, order_of, v.row, most=cuts - 1)
+            twice = Row(table, [*v.syllables, v.syllables[0]])
+            self.assert_error(NotShort, {"at": many}, order_of, twice, most=cuts - 1)
+
+    def test_free_kinds_behind_a_kind_that_bars_them_all(self):
+        table = Table(KINDS[:11], [pair for pair in FREE.pairs if "k" not in pair and "l" not in pair])
+        ten = [(kind, 1) for kind in KINDS[:10]]
+        for row in ([("k", 1), *ten], [*ten, ("k", 1)]):
+            v = Version(table, row)
+            self.assertEqual(count_orders(v, most=1025), math.factorial(10))
+            self.assert_error(TooMany, {"count": 1024}, count_orders, v, most=1024)
+            for at in (0, 5, 10 ** 6, math.factorial(10) - 1):
+                self.assertEqual(order_of(order_at(v, at), most=1025), at)
+
+    def test_the_number_of_parts_is_that_of_all_groups(self):
+        v = Version(PARTNERS, [*alternating("a", "b", 9), *alternating("c", "d", 19), *alternating("e", "f", 4)])
+        self.assertEqual(count_orders(v, most=1000), math.factorial(32) // (
+            math.factorial(9) * math.factorial(19) * math.factorial(4)))
+        self.assert_error(TooMany, {"count": 999}, count_orders, v, most=999)
+        self.assert_error(TooMany, {"count": 9}, count_orders, v, most=9)
+
+
 class TestMost(Raising):
     def test_most_is_compared_with_the_number_of_parts(self):
         for v in samples(60, 3):

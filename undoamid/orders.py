@@ -1,78 +1,139 @@
 """The orders of a version: its short rows."""
 
-from undoamid.cuts import Shape, grown, shrunk, ways_to_end
-from undoamid.errors import NotShort
+from math import comb
+
+from undoamid.errors import NotShort, TooMany
 from undoamid.rows import Row, require_index
+from undoamid.shapes import Shape, grouped, kinds_of, next_of_parts
 
 
-def shape_of(version):
-    """The shape of a version's form."""
-    return Shape(version.table, version.syllables)
+class Path:
+    """An order as it is made: the indexes of the form that were picked, and what was next ahead of each pick."""
 
+    def __init__(self, version):
+        self._form = version.row
+        self._shape = Shape(version.table, kinds_of(version.syllables))
+        self._part = 0
+        self._picks = []
+        self._nexts = [self._shape.firsts]
+        self._fill()
 
-def row_of(version, shape, picks):
-    """The row with the syllables of the form in the order in which their kinds are picked."""
-    cut = shape.empty
-    syllables = []
-    for which in picks:
-        syllables.append(version.syllables[shape.place_of(cut, which)])
-        cut = grown(cut, which)
-    return Row(version.table, syllables)
+    def made(self):
+        """The row of the order."""
+        return Row(self._form.table, [self._form.syllables[at] for at in self._picks])
 
+    def advance(self):
+        """Go on to the next order, and return whether there is one."""
+        while self._picks:
+            at = self._picks.pop()
+            self._nexts.pop()
+            self._part = self._part ^ 1 << at
+            above = [other for other in self._nexts[-1] if self._shape.kinds[other] > self._shape.kinds[at]]
+            if above:
+                self._pick(above[0])
+                self._fill()
+                return True
+        return False
 
-def least_end(shape, cut):
-    """The least picks that lead from a cut to the whole form."""
-    picks = []
-    ways = shape.next_to(cut)
-    while ways:
-        picks.append(ways[0])
-        cut = grown(cut, ways[0])
-        ways = shape.next_to(cut)
-    return picks
+    def _fill(self):
+        """Pick the least ones up to the end."""
+        while self._nexts[-1]:
+            self._pick(self._nexts[-1][0])
 
-
-def following(shape, picks):
-    """The least picks of a whole order above these, or None if there are none."""
-    cut = tuple([len(places) for places in shape.places])
-    for at in reversed(range(len(picks))):
-        cut = shrunk(cut, picks[at])
-        above = [which for which in shape.next_to(cut) if which > picks[at]]
-        if above:
-            return [*picks[:at], above[0], *least_end(shape, grown(cut, above[0]))]
-    return None
+    def _pick(self, at):
+        """Pick an index that is next."""
+        self._nexts.append(self._shape.next_behind(self._part, self._nexts[-1], at))
+        self._part = self._part | 1 << at
+        self._picks.append(at)
 
 
 def orders(version):
     """Go through the orders of a version, ascending by their kinds."""
-    shape = shape_of(version)
-    picks = least_end(shape, shape.empty)
-    while picks is not None:
-        yield row_of(version, shape, picks)
-        picks = following(shape, picks)
+    path = Path(version)
+    going = True
+    while going:
+        yield path.made()
+        going = path.advance()
+
+
+class Strand:
+    """The syllables of one group of kinds, and those of them that were taken for an order."""
+
+    def __init__(self, table, syllables, most):
+        self.syllables = syllables
+        self.nexts = next_of_parts(Shape(table, kinds_of(syllables)), most)
+        self.part = 0
+        self.left = len(syllables)
+        # In how many orders the rest can follow each part.
+        self.ways = {}
+        for part in reversed(list(self.nexts)):
+            behind = [self.ways[part | 1 << at] for at in self.nexts[part]]
+            self.ways[part] = sum(behind) if behind else 1
+
+
+class Course:
+    """The orders of a short row that begin with the syllables that were taken so far.
+
+    Syllables of different groups do not hang on one another: the orders of a row are those of its groups,
+    mixed in any way. So the numbers of the groups, which are small, tell that of the row.
+    """
+
+    def __init__(self, table, syllables, most):
+        self.number = 1
+        self._left = 0
+        self._strands = []
+        parts_so_far = 1
+        for group in grouped(table, syllables):
+            strand = Strand(table, group, most)
+            parts_so_far = parts_so_far * len(strand.nexts)
+            if parts_so_far > most:
+                raise TooMany(most)
+            self._strands.append(strand)
+            self._left = self._left + strand.left
+            self.number = self.number * comb(self._left, strand.left) * strand.ways[0]
+
+    def choices(self):
+        """What can be taken next, ascending by kind: the kind, its strand and the index there."""
+        found = []
+        for strand in self._strands:
+            for at in strand.nexts[strand.part]:
+                kind, _ = strand.syllables[at]
+                found.append((kind, strand, at))
+        return sorted(found, key=lambda choice: choice[0])
+
+    def number_with(self, strand, at):
+        """The number of those orders in which this one is taken next."""
+        ways = strand.ways[strand.part | 1 << at]
+        # A strand comes next in as large a share of the mixtures as it has of the syllables that are left.
+        return self.number * strand.left * ways // (self._left * strand.ways[strand.part])
+
+    def take(self, strand, at):
+        """Take the next syllable, and return it."""
+        self.number = self.number_with(strand, at)
+        self._left = self._left - 1
+        strand.left = strand.left - 1
+        strand.part = strand.part | 1 << at
+        return strand.syllables[at]
 
 
 def count_orders(version, *, most=2000):
     """The number of orders of a version."""
-    shape = shape_of(version)
-    return ways_to_end(shape, most)[shape.empty]
+    return Course(version.table, version.syllables, most).number
 
 
 def order_at(version, at, *, most=2000):
     """The order with an index."""
-    shape = shape_of(version)
-    ways = ways_to_end(shape, most)
-    require_index(at, ways[shape.empty])
-    cut = shape.empty
-    picks = []
+    course = Course(version.table, version.syllables, most)
+    require_index(at, course.number)
+    found = []
     for _ in version.syllables:
-        for which in shape.next_to(cut):
-            behind = ways[grown(cut, which)]
+        for _, strand, place in course.choices():
+            behind = course.number_with(strand, place)
             if at < behind:
+                found.append(course.take(strand, place))
                 break
             at = at - behind
-        picks.append(which)
-        cut = grown(cut, which)
-    return row_of(version, shape, picks)
+    return Row(version.table, found)
 
 
 def require_short(row):
@@ -90,12 +151,12 @@ def require_short(row):
 def order_of(row, *, most=2000):
     """The index of a short row among the orders of its version."""
     require_short(row)
-    shape = Shape(row.table, row.syllables)
-    ways = ways_to_end(shape, most)
-    cut = shape.empty
+    course = Course(row.table, row.syllables, most)
     number = 0
     for kind, _ in row.syllables:
-        which = shape.kinds.index(kind)
-        number = number + sum([ways[grown(cut, less)] for less in shape.next_to(cut) if less < which])
-        cut = grown(cut, which)
+        for other, strand, at in course.choices():
+            if other == kind:
+                course.take(strand, at)
+                break
+            number = number + course.number_with(strand, at)
     return number

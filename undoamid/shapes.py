@@ -38,7 +38,8 @@ class Shape:
         """The indexes next to a part with one more syllable, by kind, from those next to the part."""
         grown = part | 1 << at
         new = [index for index in self._behind[at] if self._needs[index] & grown == self._needs[index]]
-        return self._by_kind([*[index for index in nexts if index != at], *new])
+        left = [index for index in nexts if index != at]
+        return self._by_kind([*left, *new]) if new else left
 
     def _by_kind(self, indexes):
         """The indexes, ascending by the kinds of their syllables."""
