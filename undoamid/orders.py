@@ -94,12 +94,12 @@ class Course:
 
     def choices(self):
         """What can be taken next, ascending by kind: the kind, its strand and the index there."""
-        found = []
+        found = {}
         for strand in self._strands:
             for at in strand.nexts[strand.part]:
                 kind, _ = strand.syllables[at]
-                found.append((kind, strand, at))
-        return sorted(found, key=lambda choice: choice[0])
+                found[kind] = (strand, at)
+        return [(kind, *found[kind]) for kind in sorted(found)]
 
     def number_with(self, strand, at):
         """The number of those orders in which this one is taken next."""

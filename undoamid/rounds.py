@@ -114,14 +114,16 @@ def best_peak(table, share):
         return [], share
     kind = min(kinds_of(share))
     turned, rest = peak(table, share, kind)
-    found = []
+    leads, forms = [], []
     for _ in range(kinds_of(share).count(kind)):
-        found.append((turned, form_of(Row(table, rest))))
+        leads.append(turned)
+        forms.append(form_of(Row(table, rest)))
         # When its first syllable is turned, too, the next one of its kind comes to the front.
         more, following = peak(table, [*rest[1:], rest[0]], kind)
         turned = [*turned, rest[0], *more]
         rest = following
-    return min(found, key=lambda pair: pair[1])
+    best = forms.index(min(forms))
+    return leads[best], forms[best]
 
 
 def settled(version):
