@@ -15,6 +15,10 @@ PARTNERS = Table(KINDS, [
     (one, other) for one in KINDS for other in KINDS
     if one < other and KINDS.index(one) // 2 != KINDS.index(other) // 2
 ])
+# Each kind is barred with the one before and the one behind it alone: a with b, b with c, and so on.
+PATH = Table(KINDS, [(one, other) for at, one in enumerate(KINDS) for other in KINDS[at + 2:]])
+# Five pairs of partners and k, held together in one group by l, which is barred with all.
+HELD = Table(KINDS, [pair for pair in PARTNERS.pairs if "l" not in pair])
 TURNED = Table(["b", "c", "a"], [("b", "a")])
 OTHER = Table(["a", "b", "c"], [("a", "c")])
 WIDER = Table(["a", "b", "c", "d"], [("a", "b")])

@@ -3,7 +3,7 @@
 import itertools
 import math
 
-from helping import ABC, BARRED, FREE, GREAT, KINDS, ONE, PARTNERS, Raising, alternating, row_of, version
+from helping import ABC, BARRED, FREE, GREAT, HELD, KINDS, ONE, PARTNERS, Raising, alternating, row_of, version
 from reference import (
     NAMES, all_orders, all_parts, cancelled, normal, random_pairs, random_syllables, sources, turns_of,
 )
@@ -233,7 +233,8 @@ class TestMost(Raising):
             work(*arguments, most=2100)
 
     def test_very_many_parts(self):
-        wide = Version(PARTNERS, [(kind, GREAT) for _ in range(5) for kind in KINDS])
-        for most in (1, 5000):
-            for work, arguments in ((count_orders, (wide,)), (order_at, (wide, -1)), (order_of, (wide.row,))):
-                self.assert_error(TooMany, {"count": most}, work, *arguments, most=most)
+        row = [(kind, GREAT) for kind in [*KINDS[:10] * 39, "k", "l"]]
+        for wide in (Version(PARTNERS, row), Version(HELD, row)):
+            for most in (1, 5000):
+                for work, arguments in ((count_orders, (wide,)), (order_at, (wide, -1)), (order_of, (wide.row,))):
+                    self.assert_error(TooMany, {"count": most}, work, *arguments, most=most)

@@ -4,14 +4,14 @@ import itertools
 import math
 
 from helping import ABC, BARRED, FREE, GREAT, KINDS, ONE, OTHER, PARTNERS, TURNED, WIDER
-from helping import Raising, alternating, version
+from helping import HELD, Raising, alternating, version
 from reference import NAMES, all_parts, formed, led, random_pairs, random_syllables, sources, turns_of, undone, word_of
 from undoamid.errors import OtherTable, TooMany
 from undoamid.parting import core, count_parts, count_standings, parted, parts
 from undoamid.rows import Row
 from undoamid.stores import Store
-from undoamid.versions import Version
 from undoamid.tables import Table
+from undoamid.versions import Version
 
 EMPTY = Version(ABC)
 
@@ -151,6 +151,24 @@ class TestParted(Raising):
                 self.check(EMPTY, Version(ABC, form))
                 self.check(Version(ABC, form), version("b^5 a c"))
 
+    def test_cores_with_several_kinds_next(self):
+        """Nested commutators: when any of their kinds is left out, nothing stays."""
+        many = 0
+        for source in sources(150, 58):
+            kinds = list(NAMES[:source.randint(3, 4)])
+            table = Table(kinds, random_pairs(source, kinds, source.choice([3, 6])))
+            source.shuffle(kinds)
+            nested = Version(table)
+            for kind in kinds:
+                one = Version(table, [(kind, source.choice([1, -1, 2, 6]))])
+                nested = one * nested * ~one * ~nested if nested else one
+            other = Version(table, random_syllables(source, kinds, 2))
+            rest = core(other, other * nested)
+            if rest and count_parts(rest, most=5000) < count_standings(rest, most=5000) <= 5000:
+                self.check(other, other * nested, most=5000)
+                many += any(len(part) > 2 and part[:2] == (0, 1) for part in parts(rest)) and len(rest.layers[0]) > 1
+        self.assertGreater(many, 10)
+
     def test_great_counts_and_great_versions(self):
         self.check(version(f"a^{GREAT} c^{GREAT}"), version(f"c^{GREAT} a^{GREAT}"))
         self.check(version(f"a^{GREAT}"), version(f"a^{GREAT - 1}"))
@@ -257,10 +275,12 @@ class TestParts(Raising):
         self.assertEqual(list(zip(parts(v), parts(v))), [(part, part) for part in again])
 
     def test_very_many_parts(self):
-        wide = Version(PARTNERS, [(kind, GREAT) for _ in range(5) for kind in KINDS])
-        for most in (1, 2000, 5000):
-            self.assert_error(TooMany, {"count": most}, count_parts, wide, most=most)
-            self.assert_error(TooMany, {"count": most}, count_standings, wide, most=most)
+        row = [*KINDS[:10] * 39, "k", "l"]
+        for table in (PARTNERS, HELD):
+            wide = Version(table, [(kind, GREAT) for kind in row])
+            for most in (1, 2000, 5000):
+                self.assert_error(TooMany, {"count": most}, count_parts, wide, most=most)
+                self.assert_error(TooMany, {"count": most}, count_standings, wide, most=most)
 
 
 class TestOneForm(Raising):

@@ -2,7 +2,7 @@
 
 import itertools
 
-from helping import ABC, BARRED, FREE, GREAT, KINDS, ONE, OTHER, PARTNERS, TURNED, WIDER
+from helping import ABC, BARRED, FREE, GREAT, KINDS, ONE, OTHER, PARTNERS, PATH, TURNED, WIDER
 from helping import Raising, alternating, version
 from reference import (
     NAMES, groups_of, is_round_form, random_pairs, random_syllables, round_forms, sources, times, told_round,
@@ -16,8 +16,6 @@ from undoamid.tables import Table
 from undoamid.versions import Version
 
 EMPTY = Version(ABC)
-# Each kind is barred with the one before and the one behind it alone, a with b, b with c, and so on.
-PATH = Table(KINDS, [(one, other) for at, one in enumerate(KINDS) for other in KINDS[at + 2:]])
 
 
 def samples(number, seed, most=5, greatest=2):
@@ -140,6 +138,7 @@ class TestRoots(Raising):
             ("a^-4", "a^-1", 4), ("a^4", "a", 4), ("a^-1", "a^-1", 1), ("a^6 b^-4", "a^3 b^-2", 2),
             ("a^6 b^5", "a^6 b^5", 1), ("c a^9 c^-1", "c a c^-1", 9),
             ("a c a c", "a c", 2), ("a c a c^2", "a c a c^2", 1),
+            ("a c a^2 c a c a^2 c", "a c a^2 c", 2), ("c^2 b c b c^2 b c b c^2 b c b", "c^2 b c b", 3),
             ("a^2 c a^2 c a^2 c", "a^2 c", 3), ("c a c a c", "c a c a c", 1), ("a^2 c a^4 c a^2", "a^2 c a^2", 2),
             (f"a^{10 ** 39} b^{10 ** 30}", f"a^{10 ** 9} b", 10 ** 30), (f"c^{-GREAT}", "c^-1", GREAT),
         ):

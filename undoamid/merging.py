@@ -1,21 +1,16 @@
 """Merging: what was done from a common base, put together."""
 
 from undoamid.errors import Clash
-from undoamid.rows import require_same_table
 from undoamid.versions import Version, difference, form_of, joint
 
 
 def laid(base, branch, onto):
     """What was done from the base to the branch, done behind another version."""
-    require_same_table(base, branch)
-    require_same_table(base, onto)
     return Version.of(onto.row + difference(base, branch))
 
 
 def joined(base, one, *more):
     """The least version of which, seen from the base, all these versions are beginnings."""
-    for version in (one, *more):
-        require_same_table(base, version)
     ways = [difference(base, version) for version in (one, *more)]
     for at, way in enumerate(ways):
         for earlier in ways[:at]:
@@ -29,8 +24,6 @@ def joined(base, one, *more):
 
 def together(base, one, other):
     """What was done from the base to both versions, one behind the other, if their order does not matter."""
-    require_same_table(base, one)
-    require_same_table(base, other)
     way, other_way = difference(base, one), difference(base, other)
     both = way + other_way
     if form_of(both) != form_of(other_way + way):

@@ -65,8 +65,6 @@ def share_power(root_share, power):
 
 def root_and_power(version):
     """The root of a version and its power."""
-    if not version:
-        return version, 0
     lead, inner = turned_round(version)
     found = [share_root(version.table, share) for share in grouped(version.table, inner.syllables)]
     power = divisor_of_all([times for _, times in found])
@@ -110,8 +108,6 @@ def peak(table, syllables, kind):
 
 def best_peak(table, share):
     """The share of [35] to which a share of a round version can be turned, behind what is turned for it."""
-    if len(share) == 1:
-        return [], share
     kind = min(kinds_of(share))
     turned, rest = peak(table, share, kind)
     leads, forms = [], []
