@@ -14,7 +14,7 @@ def joined(base, one, *more):
     ways = [difference(base, version) for version in (one, *more)]
     for at, way in enumerate(ways):
         for earlier in ways[:at]:
-            # What [13] promises of all of them needs no further check; each two have to be tried.
+            # Raises Barred for the first two that have none; where each two have one, all of them have one.
             joint(earlier, way)
     top = ways[0]
     for way in ways[1:]:

@@ -133,7 +133,7 @@ def shortest(table, ahead, share, behind):
     base = Row(table, share_root(table, share)[0])
     end = Row(table, behind)
     best = form_of(Row(table, ahead) + end)
-    # Each power more moves each kind by as many syllables; so lengths only fall, and from some power on only rise.
+    # Power by power the lengths first fall and then rise; so the first one that is not shorter ends the search.
     for step in (base, ~base):
         start = Row(table, ahead) + step
         way = form_of(start + end)
