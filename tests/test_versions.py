@@ -446,6 +446,27 @@ class TestJoins(Raising):
         self.assert_error(Barred, {"one": ("c", 1), "other": ("d", 3)}, lambda: v | w)
         self.assert_error(Barred, {"one": ("d", 3), "other": ("c", 1)}, lambda: w | v)
 
+    def test_what_one_of_two_has_more(self):
+        for one, other, told in (
+            ("a", "a^4", "a^4"), ("a^2 b", "a b^2", "a^2 b^2"), ("a^-2", "a^-5 c", "a^-5 c"),
+            ("a^-5", "a^-5 c", "a^-5 c"),
+            ("a c b", "a c b^3", "a c b^3"), ("a c a", "a c b", "a c a b"), ("a c a^2", "a c a b^2", "a c a^2 b^2"),
+            ("a c a^2 c", "a c a b^2", None), ("a c", "a^2 c", None), ("a^2", "a c", None), ("a", "a c a c", "a c a c"),
+            ("b c a", "b a c", None), ("b c", "a b c", None), ("a c b", "a c b^-1", None), ("a c^2", "a c b", None),
+            ("a c^2 b", "a c^2", "a c^2 b"), ("a c a c", "a c b c", None), ("a c a c a", "a c", "a c a c a"),
+            ("a^2 c a", "a c a", None), ("a^2 c a^3", "a c a", None), ("a b c a", "b c", None),
+        ):
+            v, w = version(one), version(other)
+            with self.subTest(one=one, other=other):
+                if told is None:
+                    for pair in ((v, w), (w, v)):
+                        with self.assertRaises(Barred):
+                            pair[0] | pair[1]
+                else:
+                    self.assertEqual((str(v | w), str(w | v)), (str(version(told)), str(version(told))))
+        told = {"one": ("c", 1), "other": ("a", 1)}
+        self.assert_error(Barred, told, lambda: version("b c a") | version("b a c"))
+
     def test_joins_beyond_the_limit(self):
         v, w = Version(PARTNERS, alternating("a", "b", 600)), Version(PARTNERS, alternating("c", "d", 400))
         self.assertEqual(len(v | w), 1000)

@@ -1,7 +1,8 @@
 """Merging: what was done from a common base, put together."""
 
-from undoamid.errors import Clash
-from undoamid.versions import Version, difference, form_of, joint
+from undoamid.errors import Barred, Clash
+from undoamid.rows import Row
+from undoamid.versions import Version, barred_pair, difference, form_in, form_of, joint, piles_of
 
 
 def laid(base, branch, onto):
@@ -11,15 +12,17 @@ def laid(base, branch, onto):
 
 def joined(base, one, *more):
     """The least version of which, seen from the base, all these versions are beginnings."""
-    ways = [difference(base, version) for version in (one, *more)]
-    for at, way in enumerate(ways):
-        for earlier in ways[:at]:
-            # Raises Barred for the first two that have none; where each two have one, all of them have one.
-            joint(earlier, way)
+    ways = [piles_of(difference(base, version)) for version in (one, *more)]
     top = ways[0]
-    for way in ways[1:]:
-        top = joint(top, way)
-    return Version.of(base.row + top)
+    for at, way in enumerate(ways):
+        found = joint(base.table, top, way)
+        if found is None:
+            # Where each two have one, all of them have one; so there is an earlier one that has none with this one.
+            apart = [earlier for earlier in ways[:at] if joint(base.table, earlier, way) is None]
+            first, second = barred_pair(base.table, apart[0], way)
+            raise Barred(first, second)
+        top = found
+    return Version.of(base.row + Row(base.table, form_in(top)))
 
 
 def together(base, one, other):

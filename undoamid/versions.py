@@ -10,31 +10,43 @@ LIMIT = 1000
 def piles_of(row):
     """For each kind the (layer, count) of the syllables that are left of a row when all that can melt has melted."""
     piles = {kind: [] for kind in row.table.kinds}
+    # For each kind the layer above that of its topmost syllable.
+    heights = {kind: 0 for kind in row.table.kinds}
     for kind, count in row.syllables:
-        layer = max([piles[other][-1][0] + 1 for other in row.table.stops(kind) if piles[other]], default=0)
+        layer = max([heights[other] for other in row.table.stops(kind)])
         total = count
         # A syllable that comes to lie on one of its own kind melts with it, and nothing lies on that one.
-        if piles[kind] and piles[kind][-1][0] == layer - 1:
+        if piles[kind] and heights[kind] == layer:
             layer, above = piles[kind].pop()
             total = count + above
         if total != 0:
             piles[kind].append((layer, total))
+        heights[kind] = piles[kind][-1][0] + 1 if piles[kind] else 0
     return piles
 
 
-def layers_of(row):
-    """The layers of the form of a row's version, however many syllables it has."""
-    piles = piles_of(row)
+def layers_in(piles):
+    """The layers of the form of which these are the piles."""
     layers = [[] for _ in range(max([pile[-1][0] + 1 for pile in piles.values() if pile], default=0))]
-    for kind in row.table.kinds:
+    for kind in sorted(piles):
         for at, count in piles[kind]:
             layers[at].append((kind, count))
     return tuple([tuple(layer) for layer in layers])
 
 
+def form_in(piles):
+    """The syllables of the form of which these are the piles."""
+    return tuple([syllable for layer in layers_in(piles) for syllable in layer])
+
+
+def layers_of(row):
+    """The layers of the form of a row's version, however many syllables it has."""
+    return layers_in(piles_of(row))
+
+
 def form_of(row):
     """The syllables of the form of a row's version, however many they are."""
-    return tuple([syllable for layer in layers_of(row) for syllable in layer])
+    return form_in(piles_of(row))
 
 
 def difference(one, other):
@@ -94,20 +106,50 @@ def common(table, layers, others):
     return found
 
 
-def require_free(table, one, other):
-    """Raise Barred if some syllables of two forms cannot pass each other."""
-    for first in one:
-        for second in other:
-            if second[0] in table.stops(first[0]):
-                raise Barred(first, second)
+def layer_of_more(pile, other):
+    """The layer from which on a pile has more than another one of its kind, or None if it is not that one and more."""
+    if pile[:len(other)] == other:
+        return pile[len(other)][0] if len(pile) > len(other) else None
+    # Of the topmost syllable there may be more turns.
+    at = len(other) - 1
+    if len(pile) < len(other) or pile[:at] != other[:at]:
+        return None
+    layer, count = pile[at]
+    top, less = other[at]
+    return layer if layer == top and shared_count(count, less) == less else None
 
 
-def joint(one, other):
-    """A row of the least version of which two rows are beginnings; raises Barred if there is none."""
-    beginning = Row(one.table, common(one.table, layers_of(one), layers_of(other)))
-    rest = form_of(~beginning + other)
-    require_free(one.table, form_of(~beginning + one), rest)
-    return Row(one.table, [*one.syllables, *rest])
+def goes_on(table, piles, others, kind):
+    """Whether what a version has more of a kind than another one can be done behind that one."""
+    layer = layer_of_more(piles[kind], others[kind])
+    # What lies as high in the other version, or higher, and is barred with the kind would stand in its way.
+    barred = [others[stop] for stop in table.stops(kind) if stop != kind and others[stop]]
+    return layer is not None and all([pile[-1][0] < layer for pile in barred])
+
+
+def joint(table, piles, others):
+    """The piles of the least version of which two with these piles are beginnings, or None if there is none."""
+    found = {}
+    # A beginning has its syllables in the same layers; so kind by kind, one pile must be the other one and more.
+    for kind in table.kinds:
+        if piles[kind] == others[kind] or goes_on(table, piles, others, kind):
+            found[kind] = piles[kind]
+        elif goes_on(table, others, piles, kind):
+            found[kind] = others[kind]
+        else:
+            return None
+    return found
+
+
+def barred_pair(table, piles, others):
+    """The two syllables that tell why two versions with these piles are not beginnings of a common one."""
+    beginning = common(table, layers_in(piles), layers_in(others))
+    back = ~Row(table, beginning)
+    rest = form_of(back + Row(table, form_in(piles)))
+    other_rest = form_of(back + Row(table, form_in(others)))
+    stopped = [stop for kind, _ in other_rest for stop in table.stops(kind)]
+    one = rest[held(table, rest, stopped)[0]]
+    return one, other_rest[held(table, other_rest, table.stops(one[0]))[0]]
 
 
 def first_of_two(version):
@@ -213,7 +255,12 @@ class Version:
 
     def __or__(self, other):
         require_same_table(self, other)
-        return Version.of(joint(self.row, other.row))
+        piles, others = piles_of(self.row), piles_of(other.row)
+        found = joint(self.table, piles, others)
+        if found is None:
+            first, second = barred_pair(self.table, piles, others)
+            raise Barred(first, second)
+        return Version(self.table, form_in(found))
 
     def __eq__(self, other):
         return isinstance(other, Version) and self.table == other.table and self.syllables == other.syllables
